@@ -1,0 +1,1 @@
+"""Squarefield: whole numbers put together of squares, or what bars them."""
