@@ -389,6 +389,13 @@ class FourShows(AnswerCase):
                 due = 0 <= parts[0] <= parts[1] <= parts[2] <= parts[3] and sum(part ** 2 for part in parts) == number
                 self.assertIs(answer.shows(number), due, (parts, number))
 
+    def test_each_number_can_be_told_as_a_four(self):
+        pairs = {one * one + other * other: [one, other] for other in range(101) for one in range(other + 1)}
+        rising = sorted(pairs)
+        for number in NUMBERS:
+            first = next(value for value in rising if number - value in pairs)
+            self.shown(Four(sorted(pairs[first] + pairs[number - first])), number)
+
 
 class RootShows(AnswerCase):
     def test_ordinary_and_edges(self):
