@@ -3,18 +3,11 @@
 import itertools
 import unittest
 
+from plain import NUMBERS, ODD_PRIMES, primes_below
 from squarefield.answers import Answer, BarThree, BarTwo, Chain, Four, Root, Three, Two
 
 CLASSES = [Two, BarTwo, Three, BarThree, Four, Root, Chain]
-NUMBERS = range(10001)
 STEPS = ["rest", "half", "turn"]
-
-
-def primes_below(bound):
-    return [value for value in range(2, bound) if all(value % d for d in range(2, int(value ** 0.5) + 1))]
-
-
-ODD_PRIMES = primes_below(1000)[1:]
 
 
 class AnswerCase(unittest.TestCase):

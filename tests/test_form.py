@@ -117,6 +117,52 @@ class Form(unittest.TestCase):
             if isinstance(node.func, ast.Attribute):
                 self.assertIn(node.func.attr, METHODS | own, place)
 
+    def test_the_top_of_a_module_does_nothing_and_binds_each_name_once(self):
+        for path in FILES:
+            bound = []
+            for place, node in enumerate(ast.parse(path.read_text(encoding="utf-8")).body):
+                if isinstance(node, ast.Expr):
+                    self.assertTrue(place == 0 and isinstance(node.value, ast.Constant), path.name)
+                elif isinstance(node, ast.Assign):
+                    self.assertIsInstance(node.value, ast.Constant, path.name)
+                    bound.append(node.targets[0].id)
+                elif isinstance(node, ast.ImportFrom):
+                    bound.extend(alias.asname or alias.name for alias in node.names)
+                else:
+                    self.assertIsInstance(node, (ast.FunctionDef, ast.ClassDef), path.name)
+                    bound.append(node.name)
+            self.assertEqual(len(bound), len(set(bound)), path.name)
+
+    def test_no_import_is_left_unused_and_no_local_is_called_like_one_or_like_a_class(self):
+        for path in FILES:
+            nodes = list(walked(path))
+            drawn = {alias.name for node in nodes if isinstance(node, ast.ImportFrom) for alias in node.names}
+            classes = {node.name for node in nodes if isinstance(node, ast.ClassDef)}
+            read = {node.id for node in nodes if isinstance(node, ast.Name) and isinstance(node.ctx, ast.Load)}
+            stored = {node.id for node in nodes if isinstance(node, ast.Name) and isinstance(node.ctx, ast.Store)}
+            stored |= {node.arg for node in nodes if isinstance(node, ast.arg)}
+            self.assertEqual(drawn - read, set(), path.name)
+            self.assertEqual(stored & (drawn | classes), set(), path.name)
+
+    def test_small_forms(self):
+        for node, place in self.each_node(ast.Compare):
+            for operator, right in zip(node.ops, node.comparators):
+                if isinstance(operator, (ast.Is, ast.IsNot)):
+                    self.assertTrue(isinstance(right, ast.Constant) and not isinstance(right.value, (int, str))
+                                    or isinstance(getattr(right, "value", None), bool), place)
+        for node, place in self.each_node(ast.BinOp):
+            if isinstance(node.op, ast.Pow):
+                self.assertIsInstance(node.right, ast.Constant, place)
+        for node, place in self.each_node(ast.FormattedValue):
+            self.assertIsInstance(node.value, ast.Name, place)
+            self.assertIsNone(node.format_spec, place)
+        for node, place in self.each_node(ast.Constant):
+            if isinstance(node.value, str):
+                self.assertNotIn("%", node.value, place)
+        for node, place in self.each_node(ast.ListComp):
+            self.assertEqual(len(node.generators), 1, place)
+            self.assertLessEqual(len(node.generators[0].ifs), 1, place)
+
     def test_no_name_is_a_method_and_a_value(self):
         methods = {inner.name for node, _ in self.each_node(ast.ClassDef) for inner in node.body
                    if isinstance(inner, ast.FunctionDef)}

@@ -1,9 +1,13 @@
 """What the files share of whole numbers, squares, primes and turnings."""
 
+import math
 import unittest
 
+from plain import NO_NUMBERS, DoorCase
+from squarefield.errors import BadNumber
 from squarefield.numbers import (
-    Turning, are_parts_of, is_number, is_prime, is_rest_prime, is_whole, times_in,
+    Turning, are_parts_of, is_number, is_prime, is_rest_prime, is_whole, least_divisor, pairs_of, primes_in,
+    refuse_no_number, times_in, whole_root,
 )
 
 NO_WHOLE_NUMBERS = [True, False, None, "1", "", [1], (1,), {}, 1.0, 0.0]
@@ -18,7 +22,7 @@ def sieve(below):
     return prime
 
 
-class Numbers(unittest.TestCase):
+class Numbers(DoorCase):
     def test_a_number_is_whole_from_0_to_10000(self):
         for value in [0, 1, 2, 5000, 9999, 10000]:
             self.assertIs(is_number(value), True, value)
@@ -29,6 +33,11 @@ class Numbers(unittest.TestCase):
         for value in NO_WHOLE_NUMBERS:
             self.assertIs(is_number(value), False, value)
             self.assertIs(is_whole(value), False, value)
+
+    def test_what_is_no_number_is_refused(self):
+        self.each_refused(BadNumber, refuse_no_number, NO_NUMBERS)
+        for value in range(10001):
+            self.assertIsNone(refuse_no_number(value))
 
     def test_whole_numbers_have_no_bounds(self):
         for value in [-10 ** 30, -1, 0, 1, 10 ** 30]:
@@ -53,6 +62,16 @@ class Primes(unittest.TestCase):
         for value in [-3, -7] + NO_WHOLE_NUMBERS:
             self.assertIs(is_rest_prime(value), False, value)
 
+    def test_least_divisor_is_the_first_one_tried(self):
+        for value in range(2, 1500):
+            self.assertEqual(least_divisor(value), next(d for d in range(2, value + 1) if value % d == 0))
+
+    def test_primes_in_are_all_primes_that_go_in_each_once_rising(self):
+        expected = sieve(1500)
+        self.assertEqual(primes_in(1), [])
+        for value in range(2, 1500):
+            self.assertEqual(primes_in(value), [d for d in range(2, value + 1) if expected[d] and value % d == 0])
+
     def test_times_in_counts_how_often_a_prime_goes_in(self):
         self.assertEqual(times_in(3, 1), 0)
         self.assertEqual(times_in(3, 10), 0)
@@ -60,6 +79,19 @@ class Primes(unittest.TestCase):
         self.assertEqual(times_in(3, 18), 2)
         self.assertEqual(times_in(3, 6561), 8)
         self.assertEqual(times_in(2, 8192), 13)
+
+
+class Squares(unittest.TestCase):
+    def test_whole_root_up_to_10000_and_about_greater_squares(self):
+        for number in list(range(10001)) + [89999, 90000, 90001]:
+            self.assertEqual(whole_root(number), math.isqrt(number))
+
+    def test_pairs_of_are_all_pairs_rising(self):
+        for number in list(range(400)) + [9999, 10000, 42025, 90000]:
+            root = math.isqrt(number)
+            due = [(one, other) for one in range(root + 1) for other in range(one, root + 1)
+                   if one * one + other * other == number]
+            self.assertEqual(pairs_of(number), due)
 
 
 class Parts(unittest.TestCase):
